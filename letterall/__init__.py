@@ -1,0 +1,1 @@
+"""Letterall: all runs of hands that send letters."""
