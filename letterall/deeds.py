@@ -40,6 +40,11 @@ def mover(move):
 def do(program, world, move):
     if not may_be_made(program, world, move):
         raise NoMove(0)
+    return after_move(program, world, move)
+
+
+def after_move(program, world, move):
+    """The world behind a move that may be made there."""
     if move[0] == "lose":
         return after_loss(world, move[1], move[2])
     if move[0] == "fall":

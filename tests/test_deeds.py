@@ -1,4 +1,3 @@
-import itertools
 import random
 import unittest
 
@@ -6,24 +5,10 @@ from letterall.deeds import do, mover, moves
 from letterall.errors import NoMove
 from letterall.programs import look_over
 from letterall.worlds import first, is_world
-
-BELL = ("bell",)
-
-
-def mine(place=0, numbers=(0, 0, 0), names=(-1, -1, -1), sets=(0, 0), bell=False):
-    return (place, numbers, names, sets, bell)
-
+from tests.samples import BELL, mine, some_program, with_truths, world_of
 
 GONE = mine(-1)
 END = mine(1)
-
-
-def world_of(parts, letters=(), left=(0, 0)):
-    """A world with letters, told as a dict by (from, to)."""
-    letters = dict(letters)
-    hands = range(len(parts))
-    rows = tuple(tuple(tuple(letters.get((sender, to), ())) for sender in hands) for to in hands)
-    return (tuple(parts), rows, tuple(left))
 
 
 def program_of(step, hands=(0,), room=2, left=(0, 0)):
@@ -424,37 +409,6 @@ class Refused(Deeds):
             self.refused(self.PROGRAM, self.WORLD, move)
 
 
-def some_step(chance, length, roles, lone):
-    """Any step of a part of this length, each word as likely as the others."""
-    box, place, role = (lambda: chance.randrange(3)), (lambda: chance.randint(0, length)), chance.randrange(roles)
-    pair = chance.sample(range(3), 2)
-    lines = tuple((kind, box(), *chance.sample(range(3), 2), place()) for kind in chance.sample(range(4), 3))
-    return chance.choice((
-        ("put", box(), chance.randint(-3, 3)), ("copy", box(), box()), ("raise", box(), chance.randint(-3, 3)),
-        ("sum", box(), box()), ("choose", box(), chance.randint(1, 3)), ("less", box(), 1, place()),
-        ("before", pair[0], pair[1], place()), ("go", place()), ("me", box()), ("only", box(), lone),
-        ("pick", box(), role), ("alike", box(), box(), place()), ("all", chance.randrange(2), role),
-        ("empty", chance.randrange(2)), ("join", chance.randrange(2), box()), ("out", box(), 0, place()),
-        ("many", chance.randrange(2), 1, place()), ("send", box(), chance.randint(1, 3), box(), box()),
-        ("take", chance.randint(-1, 2), lines), BELL))
-
-
-def some_program(chance):
-    lengths = [chance.randint(4, 12) for role in range(3)]
-    roles = tuple(tuple(some_step(chance, length, 3, 1) for place in range(length)) for length in lengths)
-    return (chance.randint(1, 2), (1, 1), roles, (0, 0, 1, 2))
-
-
-def with_truths(move):
-    """The move with a truth in the place of each 0 and 1 in turn."""
-    if isinstance(move, tuple):
-        for at, each in enumerate(move):
-            for other in with_truths(each):
-                yield move[:at] + (other,) + move[at + 1:]
-    elif move in (0, 1):
-        yield bool(move)
-
-
 class ManyPrograms(unittest.TestCase):
     def test_moves_lead_to_worlds(self):
         chance = random.Random(20)
@@ -478,9 +432,10 @@ class ManyPrograms(unittest.TestCase):
         self.assertEqual(len(words), 20)
 
     def check_truths(self, program, world, told):
-        for move in itertools.chain.from_iterable(with_truths(each) for each in told):
-            with self.assertRaises(NoMove):
-                do(program, world, move)
+        for each in told:
+            for move in with_truths(each):
+                with self.assertRaises(NoMove):
+                    do(program, world, move)
 
 
 if __name__ == "__main__":

@@ -3,6 +3,7 @@ import unittest
 
 from letterall.deeds import do, moves
 from letterall.worlds import first, is_world, part, row
+from tests.samples import at_path, changed, numbers_within, tuples_within
 
 TAKE = ("take", -1, ((4, 0, 1, 2, 3), (5, 1, 1, 2, 0), (0, 0, 0, 1, 3)))
 SENDER = (("pick", 0, 1), ("choose", 1, 3), ("send", 0, 4, 1, 0), ("send", 0, 5, 1, 1), ("go", 0))
@@ -26,34 +27,6 @@ WORLD = (
     ),
     (1, 0),
 )
-
-
-def changed(thing, path, value):
-    if path == ():
-        return value
-    at = path[0]
-    return thing[:at] + (changed(thing[at], path[1:], value),) + thing[at + 1:]
-
-
-def at_path(thing, path):
-    for at in path:
-        thing = thing[at]
-    return thing
-
-
-def tuples_within(thing, path=()):
-    if isinstance(thing, tuple):
-        yield path
-        for at, each in enumerate(thing):
-            yield from tuples_within(each, path + (at,))
-
-
-def numbers_within(thing, path=()):
-    if isinstance(thing, tuple):
-        for at, each in enumerate(thing):
-            yield from numbers_within(each, path + (at,))
-    elif thing is not True and thing is not False:
-        yield path
 
 
 class First(unittest.TestCase):
