@@ -53,7 +53,10 @@ def word_of(thing):
 def has_form(thing, slots, roles):
     if slots is None or len(thing) != 1 + len(slots):
         return False
-    return all([fits(slot, each, roles) for slot, each in zip(slots, thing[1:])])
+    for slot, each in zip(slots, thing[1:]):
+        if not fits(slot, each, roles):
+            return False
+    return True
 
 
 def fits(slot, thing, roles):

@@ -36,9 +36,14 @@ def with_row(world, sender, to, letters):
 
 
 def is_world(program, thing):
+    return has_world_form(program, thing, is_whole)
+
+
+def has_world_form(program, thing, is_number):
+    """Whether a thing is a world of the program, or something like it with other things for numbers."""
     if not is_tuple_of(thing, 3):
         return False
-    if not are_parts(program, thing[PARTS]) or not are_rows(program, thing[ROWS]):
+    if not are_parts(program, thing[PARTS], is_number) or not are_rows(program, thing[ROWS], is_number):
         return False
     return is_left(thing[LEFT_STILL], program[LEFT])
 
@@ -47,40 +52,40 @@ def is_left(thing, most):
     return is_tuple_of(thing, 2) and is_between(thing[0], 0, most[0]) and is_between(thing[1], 0, most[1])
 
 
-def are_parts(program, thing):
+def are_parts(program, thing, is_number):
     if not is_tuple_of(thing, len(program[HANDS])):
         return False
-    return all([is_part(program, program[HANDS][hand], mine) for hand, mine in enumerate(thing)])
+    return all([is_part(program, role, mine, is_number) for role, mine in zip(program[HANDS], thing)])
 
 
-def is_part(program, role, thing):
+def is_part(program, role, thing, is_number):
     hands = len(program[HANDS])
     if not is_tuple_of(thing, 5) or not is_between(thing[PLACE], FALLEN, length_of(program, role)):
         return False
-    if not is_tuple_of(thing[NUMBERS], 3) or not all([is_whole(number) for number in thing[NUMBERS]]):
+    if not is_tuple_of(thing[NUMBERS], 3) or not all([is_number(number) for number in thing[NUMBERS]]):
         return False
     if not are_between(thing[NAMES], 3, NOBODY, hands - 1):
         return False
     return are_between(thing[SETS], 2, 0, (1 << hands) - 1) and isinstance(thing[BELL], bool)
 
 
-def are_rows(program, thing):
+def are_rows(program, thing, is_number):
     hands = len(program[HANDS])
     if not is_tuple_of(thing, hands):
         return False
     for rows in thing:
-        if not is_tuple_of(rows, hands) or not all([is_row(program, letters) for letters in rows]):
+        if not is_tuple_of(rows, hands) or not all([is_row(program, letters, is_number) for letters in rows]):
             return False
     return True
 
 
-def is_row(program, thing):
+def is_row(program, thing, is_number):
     if not isinstance(thing, tuple) or len(thing) > program[ROOM]:
         return False
-    return all([is_letter(letter, len(program[HANDS])) for letter in thing])
+    return all([is_letter(letter, len(program[HANDS]), is_number) for letter in thing])
 
 
-def is_letter(thing, hands):
+def is_letter(thing, hands, is_number):
     if not is_tuple_of(thing, 3):
         return False
-    return is_between(thing[0], 1, 12) and is_whole(thing[1]) and is_between(thing[2], NOBODY, hands - 1)
+    return is_between(thing[0], 1, 12) and is_number(thing[1]) and is_between(thing[2], NOBODY, hands - 1)
