@@ -22,6 +22,9 @@ def new_name(name, p):
 
 
 def renamed_part(mine, p):
+    # Many parts name nobody, and least_by asks this very often.
+    if mine[NAMES] == (NOBODY, NOBODY, NOBODY) and mine[SETS] == (0, 0):
+        return mine
     names = tuple([new_name(name, p) for name in mine[NAMES]])
     sets = tuple([renamed_set(some, p) for some in mine[SETS]])
     return replaced(replaced(mine, NAMES, names), SETS, sets)
@@ -76,9 +79,10 @@ def least_by(turns, world):
     """The least of the worlds renamed by these turns, and the first renaming that leads to it."""
     # Tuples compare thing by thing: the turns that lead to the least world are those that are left when,
     # at each thing in its order, just those with the least one there are kept.
+    # The place and the numbers stand first and hang on no names: most turns are dropped cheaply by them.
+    heads = [mine[:NAMES] for mine in world[PARTS]]
     for hand in all_hands(world):
-        # The place and the numbers stand first and hang on no names: most turns are dropped cheaply by them.
-        turns = lowest(turns, [part(world, back[hand])[:NAMES] for p, back in turns])
+        turns = lowest(turns, [heads[back[hand]] for p, back in turns])
         turns = lowest(turns, [renamed_part(part(world, back[hand]), p) for p, back in turns])
     for to in all_hands(world):
         for sender in all_hands(world):

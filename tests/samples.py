@@ -5,6 +5,9 @@ Every chance is a random.Random that the test has made with a number of its own,
 
 import itertools
 
+from letterall.claims import bit_of, broken
+from letterall.runs import run
+
 BELL = ("bell",)
 
 
@@ -151,6 +154,27 @@ def some_test(chance, roles, depth=2):
 def some_claim(chance, roles, words=("never", "behind", "comes")):
     word = chance.choice(words)
     return (word,) + tuple(some_test(chance, roles) for each in range(1 if word == "never" else 2))
+
+
+def breaks_at(program, claim, worlds):
+    """The place of the first world of a run at which the claim is broken, None where it is nowhere."""
+    bit = False
+    for at, world in enumerate(worlds):
+        bit = bit_of(program, claim, world, bit)
+        if broken(program, claim, world, bit):
+            return at
+    return None
+
+
+def some_fitting_claim(chance, program, words=("never", "behind")):
+    """A claim that the first world does not break, but, if such a one is found soon, some run does."""
+    claims = [some_claim(chance, len(program[2]), words) for each in range(60)]
+    runs = [run(program, lambda may: chance.randrange(1000), 12)[1] for each in range(4)]
+    fitting = [claim for claim in claims if breaks_at(program, claim, runs[0]) != 0]
+    for claim in fitting:
+        if any(breaks_at(program, claim, worlds) is not None for worlds in runs):
+            return claim
+    return fitting[0] if fitting else claims[0]
 
 
 def permutations_keeping(hands):

@@ -1,0 +1,21 @@
+"""Going through plainly: every world that runs come to, as it is."""
+
+from letterall.claims import look_over_claim
+from letterall.deeds import after_move, moves
+from letterall.goings import go_through
+from letterall.programs import look_over
+
+
+def go_plainly(program, claim, most):
+    look_over(program)
+    look_over_claim(program, claim)
+    gone = go_through(program, claim, most, lambda world: moves_and_worlds(program, world))
+    if gone[0] == "broken":
+        return ("broken", gone[1].way())
+    if gone[0] == "more":
+        return ("more",)
+    return ("whole", gone[1].pairs)
+
+
+def moves_and_worlds(program, world):
+    return [(move, after_move(program, world, move)) for move in moves(program, world)]
