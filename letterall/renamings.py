@@ -21,6 +21,11 @@ def is_renaming(thing, count):
     return are_between(thing, count, 0, count - 1) and len(set(thing)) == count
 
 
+def keeps_roles(program, p):
+    hands = program[HANDS]
+    return all([hands[name] == role for name, role in zip(p, hands)])
+
+
 def keeping(program):
     """All renamings that keep roles, rising."""
     found = [()]
