@@ -3,7 +3,7 @@
 from letterall.checks import perhaps
 from letterall.errors import NoClaim
 from letterall.forms import is_claim
-from letterall.programs import ROLES
+from letterall.programs import ROLES, look_over
 
 # The word of the mark of the box that a test of a hand names, by the test's own word.
 MARKED = {
@@ -16,6 +16,14 @@ MARKED = {
 def look_over_claim(program, claim):
     if not is_claim(claim, len(program[ROLES])):
         raise NoClaim("no claim of the program")
+
+
+def look_over_both(program, claim, words):
+    """Refuses what is no program, then what is no claim of it, then a claim of another word than these."""
+    look_over(program)
+    look_over_claim(program, claim)
+    if claim[0] not in words:
+        raise NoClaim("a claim of another word")
 
 
 def bit_of(program, claim, world, ahead):

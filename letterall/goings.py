@@ -1,6 +1,7 @@
 """Going through the pairs (world, bit) that runs come to, the nearest ones first."""
 
 from letterall.claims import bit_of, broken
+from letterall.deeds import after_move, moves
 from letterall.worlds import first
 
 
@@ -10,25 +11,29 @@ class Trail:
     def __init__(self):
         self.pairs = []
         self.origins = []
-        self.known = {}
+        self.places = {}
 
     def come_to(self, pair, origin):
         """Whether the pair is a new one. Its origin is the place of the pair ahead and the deed from there."""
-        if pair in self.known:
+        if pair in self.places:
             return False
-        self.known[pair] = True
+        self.places[pair] = len(self.pairs)
         self.pairs.append(pair)
         self.origins.append(origin)
         return True
 
-    def way(self):
-        """The deeds by which the last pair was first come to."""
+    def way_to(self, place):
+        """The deeds by which the pair at a place was first come to; there is no shorter way to it."""
         deeds = []
-        origin = self.origins[-1]
+        origin = self.origins[place]
         while origin is not None:
             deeds.append(origin[1])
             origin = self.origins[origin[0]]
         return list(reversed(deeds))
+
+    def way(self):
+        """The deeds by which the last pair was first come to."""
+        return self.way_to(len(self.pairs) - 1)
 
 
 def go_through(program, claim, most, deeds_at):
@@ -64,3 +69,8 @@ def told_of_last(program, claim, most, trail):
     if broken(program, claim, last[0], last[1]):
         return "broken"
     return "more" if len(trail.pairs) > most else "whole"
+
+
+def moves_and_worlds(program, world):
+    """Each move that may be made, with the world that it leads to."""
+    return [(move, after_move(program, world, move)) for move in moves(program, world)]

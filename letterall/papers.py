@@ -1,16 +1,18 @@
 """Papers: closed lists of patterns, held against a program and a claim."""
 
-from letterall.claims import bit_of, bit_over, broken_over, look_over_claim
+from letterall.claims import bit_of, bit_over, broken_over, look_over_both
 from letterall.deeds import mover
-from letterall.errors import NoClaim
 from letterall.patterns import is_pattern, lies_in, within
-from letterall.programs import HANDS, look_over
+from letterall.programs import HANDS
 from letterall.quiet import quiet
 from letterall.renamed import renamed
 from letterall.renamings import is_renaming, keeps_roles
 from letterall.spreads import spread
 from letterall.wholes import is_between, is_tuple_of
 from letterall.worlds import first
+
+# The words of the claims that papers are of.
+PAPER_WORDS = ("never", "behind")
 
 # Where the things of a paper's row stand in its tuple.
 PATTERN = 0
@@ -20,10 +22,7 @@ STEPS = 3
 
 
 def fault(program, claim, paper):
-    look_over(program)
-    look_over_claim(program, claim)
-    if claim[0] == "comes":
-        raise NoClaim("papers are of claims never or behind")
+    look_over_both(program, claim, PAPER_WORDS)
     rows = paper if isinstance(paper, (list, tuple)) else ()
     for number, line in enumerate(rows):
         if not is_line(program, line, len(rows)):

@@ -1,8 +1,7 @@
 """Going through plainly: every world that runs come to, as it is."""
 
 from letterall.claims import look_over_claim
-from letterall.deeds import after_move, moves
-from letterall.goings import go_through
+from letterall.goings import go_through, moves_and_worlds
 from letterall.programs import look_over
 
 
@@ -15,7 +14,3 @@ def go_plainly(program, claim, most):
     if gone[0] == "more":
         return ("more",)
     return ("whole", gone[1].pairs)
-
-
-def moves_and_worlds(program, world):
-    return [(move, after_move(program, world, move)) for move in moves(program, world)]

@@ -6,7 +6,9 @@ Every chance is a random.Random that the test has made with a number of its own,
 import itertools
 
 from letterall.claims import bit_of, broken
+from letterall.deeds import do, moves
 from letterall.runs import run
+from letterall.worlds import first
 
 BELL = ("bell",)
 
@@ -180,3 +182,52 @@ def some_fitting_claim(chance, program, words=("never", "behind")):
 def permutations_keeping(hands):
     """All renamings that keep these roles, by trying every order."""
     return [p for p in itertools.permutations(range(len(hands))) if all(hands[p[h]] == hands[h] for h in range(len(p)))]
+
+
+def pairs_by_slow_going(program, claim, most, made_at):
+    """Going through pairs, word by word as the document tells it: made_at tells the moves that are made at a world.
+
+    Told are a word, the pairs come to, and the moves by which each was first come to.
+    """
+    start = first(program)
+    pairs = [(start, bit_of(program, claim, start, False))]
+    ways = {pairs[0]: []}
+    if broken(program, claim, *pairs[0]):
+        return ("broken", pairs, ways)
+    for world, ahead in pairs:
+        for move in made_at(world):
+            after = do(program, world, move)
+            pair = (after, bit_of(program, claim, after, ahead))
+            if pair not in ways:
+                pairs.append(pair)
+                ways[pair] = ways[(world, ahead)] + [move]
+                if broken(program, claim, *pair):
+                    return ("broken", pairs, ways)
+                if len(pairs) > most:
+                    return ("more", pairs, ways)
+    return ("whole", pairs, ways)
+
+
+def slow_count_fault(program, claim, counts):
+    """The first fault of counts whose rows have a good form."""
+    rows = {(world, bit): (count, hand) for world, bit, count, hand in counts}
+    start = first(program)
+    if (start, bit_of(program, claim, start, False)) not in rows:
+        return ("first",)
+    for number, (world, bit, count, hand) in enumerate(counts):
+        behind = []
+        for move in moves(program, world):
+            after = do(program, world, move)
+            behind.append((move, (after, bit_of(program, claim, after, bit))))
+        if any(pair not in rows for move, pair in behind):
+            return ("list", number)
+        if not bit:
+            continue
+        if count == 0 or not any(move[:2] == ("do", hand) for move, pair in behind):
+            return ("hand", number)
+        owing = [(move, *rows[pair]) for move, pair in behind if pair[1]]
+        if any(there > count or (there == count and who != hand) for move, there, who in owing):
+            return ("grows", number)
+        if any(there == count and move[:2] == ("do", hand) for move, there, who in owing):
+            return ("stays", number)
+    return None

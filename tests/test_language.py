@@ -211,5 +211,121 @@ class Language(unittest.TestCase):
                 del draws[name]
 
 
+WALKS = ("zip", "enumerate", "reversed", "range")
+WALKED_BY = ("list", "tuple", "dict", "sorted", "sum", "any", "all", "enumerate", "zip")
+KEYWORDS = {"sorted": ("key", "reverse"), "min": ("key", "default"), "max": ("key", "default"), "sum": ("start",),
+            "enumerate": ("start",), "zip": ("strict",)}
+READERS = ("len", "sorted", "list", "dict", "tuple", "enumerate", "zip", "min", "max", "sum", "any", "all")
+READING_METHODS = ("get", "index", "count", "items", "keys", "values", "copy")
+
+
+def with_parents(tree):
+    """Each node of a tree with the one around it."""
+    for around in ast.walk(tree):
+        for node in ast.iter_child_nodes(around):
+            yield node, around
+
+
+def name_called(node):
+    """The name by which a node calls, None where it is no call of a plain name."""
+    return node.func.id if isinstance(node, ast.Call) and isinstance(node.func, ast.Name) else None
+
+
+def is_walked_at_once(node, around):
+    if isinstance(around, (ast.For, ast.comprehension)):
+        return around.iter is node
+    if isinstance(around, ast.Call) and node in around.args:
+        if name_called(around) in ("min", "max"):
+            return len(around.args) == 1
+        if name_called(around) in ("zip",):
+            return True
+        written = isinstance(around.func, ast.Attribute) and isinstance(around.func.value, ast.Constant)
+        return around.args[0] is node and (name_called(around) in WALKED_BY or (written and around.func.attr == "join"))
+    return False
+
+
+class NarrowerRules(unittest.TestCase):
+    def for_each(self, check):
+        for path in FILES:
+            for node, around in with_parents(tree_of(path)):
+                with self.subTest(path=path.name, line=getattr(node, "lineno", 0)):
+                    check(node, around)
+
+    def test_walked_at_once(self):
+        def check(node, around):
+            method = node.func.attr if isinstance(node, ast.Call) and isinstance(node.func, ast.Attribute) else None
+            if name_called(node) in WALKS or method in ("items", "keys", "values"):
+                self.assertTrue(is_walked_at_once(node, around))
+        self.for_each(check)
+
+    def test_what_a_loop_walks_is_not_changed_in_it(self):
+        changing = ("append", "clear", "extend", "insert", "pop", "remove", "reverse", "setdefault", "update")
+
+        def check(node, around):
+            if not isinstance(node, ast.For):
+                return
+            walked = {ast.unparse(each) for each in ast.walk(node.iter) if isinstance(each, (ast.Name, ast.Attribute))}
+            for inner in [inner for statement in node.body for inner in ast.walk(statement)]:
+                if isinstance(inner, ast.Call) and isinstance(inner.func, ast.Attribute) and inner.func.attr in changing:
+                    self.assertNotIn(ast.unparse(inner.func.value), walked)
+                if isinstance(inner, ast.Subscript) and isinstance(inner.ctx, ast.Store):
+                    self.assertNotIn(ast.unparse(inner.value), walked)
+        self.for_each(check)
+
+    def test_sets_are_asked_on_the_spot(self):
+        def check(node, around):
+            if name_called(node) in ("set", "frozenset"):
+                self.assertTrue(isinstance(around, (ast.Compare, ast.BinOp)) or name_called(around) in ("sorted", "len"))
+        self.for_each(check)
+
+    def test_own_functions_are_called(self):
+        def check(node, around):
+            if isinstance(node, ast.Name) and node.id in OWN_NAMES and node.id[0].islower():
+                kind = name_called(around) == "isinstance" or isinstance(around, ast.Tuple)
+                self.assertTrue(kind or isinstance(around, ast.keyword) or getattr(around, "func", None) is node)
+            if isinstance(node, ast.Attribute) and node.attr in OWN_METHODS and node.attr not in ("index", "count"):
+                self.assertTrue(getattr(around, "func", None) is node)
+        self.for_each(check)
+
+    def test_keywords(self):
+        def check(node, around):
+            if isinstance(node, ast.keyword):
+                self.assertIn(node.arg, KEYWORDS.get(name_called(around), ()))
+        self.for_each(check)
+
+    def test_lambdas_alike_on_one_line(self):
+        for path in FILES:
+            seen = set()
+            for node in ast.walk(tree_of(path)):
+                if isinstance(node, ast.Lambda):
+                    mark = (node.lineno, ast.unparse(node.args))
+                    self.assertNotIn(mark, seen, path.name)
+                    seen.add(mark)
+
+    def test_errors(self):
+        def check(node, around):
+            if isinstance(node, ast.Try):
+                self.assertEqual(node.finalbody, [])
+            if isinstance(node, ast.ExceptHandler):
+                self.assertNotIn(ast.unparse(node.type) if node.type else None, (None, "Exception", "TypeError"))
+            if isinstance(node, ast.Raise):
+                self.assertIsInstance(node.exc, ast.Call)
+        self.for_each(check)
+
+    def test_lists_and_dicts_of_the_top_are_only_read(self):
+        for path in FILES:
+            tree = tree_of(path)
+            kept = {node.targets[0].id for node in tree.body
+                    if isinstance(node, ast.Assign) and isinstance(node.value, (ast.List, ast.Dict))}
+            for node, around in with_parents(tree):
+                if isinstance(node, ast.Name) and node.id in kept and isinstance(node.ctx, ast.Load):
+                    with self.subTest(path=path.name, line=node.lineno):
+                        self.assertTrue(
+                            (isinstance(around, ast.Subscript) and isinstance(around.ctx, ast.Load))
+                            or isinstance(around, (ast.Compare, ast.For, ast.comprehension))
+                            or name_called(around) in READERS
+                            or (isinstance(around, ast.Attribute) and around.attr in READING_METHODS))
+
+
 if __name__ == "__main__":
     unittest.main()

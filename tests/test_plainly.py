@@ -1,13 +1,14 @@
 import random
 import unittest
 
-from letterall.claims import bit_of, broken
-from letterall.deeds import do, moves
+from letterall.claims import bit_of
+from letterall.deeds import moves
 from letterall.errors import NoClaim, NoProgram
 from letterall.plainly import go_plainly
 from letterall.runs import run, walk
 from letterall.worlds import first
-from tests.samples import breaks_at, mine, some_claim, some_fitting_claim, some_program, world_of
+from tests.samples import (breaks_at, mine, pairs_by_slow_going, some_claim, some_fitting_claim, some_program,
+                           world_of)
 
 NEVER = ("never", ("letters", 1, 1, None))
 
@@ -22,23 +23,8 @@ RINGERS = (1, (0, 0), ((("choose", 0, 2), ("bell",)),), (0, 0))
 
 def slowly(program, claim, most):
     """Going through plainly, word by word as the document tells it."""
-    start = first(program)
-    pairs = [(start, bit_of(program, claim, start, False))]
-    ways = {pairs[0]: []}
-    if broken(program, claim, *pairs[0]):
-        return ("broken", [])
-    for world, ahead in pairs:
-        for move in moves(program, world):
-            after = do(program, world, move)
-            pair = (after, bit_of(program, claim, after, ahead))
-            if pair not in ways:
-                pairs.append(pair)
-                ways[pair] = ways[(world, ahead)] + [move]
-                if broken(program, claim, *pair):
-                    return ("broken", ways[pair])
-                if len(pairs) > most:
-                    return ("more",)
-    return ("whole", pairs)
+    word, pairs, ways = pairs_by_slow_going(program, claim, most, lambda world: moves(program, world))
+    return {"broken": ("broken", ways[pairs[-1]]), "more": ("more",), "whole": ("whole", pairs)}[word]
 
 
 def bit_behind(program, claim, worlds):
