@@ -9,7 +9,7 @@ def ring_in(knot, hands):
     gone = []
     for hand in hands:
         if not is_served(knot, gone, start, hand):
-            gone.extend(nearest(knot, last_node(gone, start), lambda way: serves(knot, way, hand)))
+            gone.extend(nearest_serving(knot, last_node(gone, start), hand))
     if len(gone) == 0 or last_node(gone, start) != start:
         gone.extend(nearest(knot, last_node(gone, start), lambda way: way[1] == start))
     return [move for move, node in gone]
@@ -26,6 +26,10 @@ def is_served(knot, gone, start, hand):
 
 def serves(knot, way, hand):
     return mover(way[0]) == hand or knot.is_idle(hand, way[1])
+
+
+def nearest_serving(knot, node, hand):
+    return nearest(knot, node, lambda way: serves(knot, way, hand))
 
 
 def nearest(knot, node, is_goal):

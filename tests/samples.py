@@ -231,3 +231,55 @@ def slow_count_fault(program, claim, counts):
         if any(there == count and move[:2] == ("do", hand) for move, there, who in owing):
             return ("stays", number)
     return None
+
+
+def some_line(chance, depth, hands, kinds, most):
+    """Any line; who is not told what a fork chose is often told by somebody else, so that it can be known."""
+    sender = chance.choice(hands)
+    others = [hand for hand in hands if hand != sender]
+    tos = tuple(chance.sample(others, chance.randint(1, min(3, len(others)))))
+    what = chance.random()
+    if what < 0.45 or depth == 0:
+        return ("say", sender, tos[0], chance.randint(1, kinds))
+    if what < 0.85:
+        return some_fork(chance, depth, sender, others, kinds, most)
+    more, on = chance.sample(range(1, kinds + 2), 2)
+    within = [sender, *tos] if chance.random() < 0.9 else hands
+    return ("again", sender, tos, more, some_talk(chance, depth - 1, within, kinds, most), on)
+
+
+def some_fork(chance, depth, sender, others, kinds, most):
+    tos = tuple(chance.sample(others, chance.choice((1, 1, min(2, len(others)), len(others)))))
+    speakers = {hand: chance.choice((sender, *tos)) for hand in others if hand not in tos and chance.random() < 0.75}
+    count = chance.randint(2, 3)
+    branches = []
+    for kind in chance.sample(range(1, max(kinds, count) + 1), count):
+        order = chance.sample(list(speakers), len(speakers))
+        heads = tuple(some_head(chance, depth, speakers[hand], hand, kinds) for hand in order)
+        branches.append((kind, heads + some_talk(chance, depth - 1, [sender, *tos, *order], kinds, most)))
+    if chance.random() < 0.4:
+        branches = [(kind, branches[0][1]) for kind, talk in branches]
+    return ("fork", sender, tos, tuple(branches))
+
+
+def some_head(chance, depth, speaker, hand, kinds):
+    """A line by which the hand may know what was chosen."""
+    one, other = chance.sample(range(1, kinds + 3), 2)
+    what = chance.random()
+    if what < 0.25:
+        return ("again", speaker, (hand,), one, some_talk(chance, depth - 2, [speaker, hand], kinds, 1), other)
+    if what < 0.4 and depth > 1:
+        talks = [some_talk(chance, depth - 2, [speaker, hand], kinds, 1) for each in range(2)]
+        return ("fork", speaker, (hand,), ((one, talks[0]), (other, talks[1])))
+    return ("say", speaker, hand, one)
+
+
+def some_talk(chance, depth, hands, kinds, most):
+    if depth < 0:
+        return ()
+    return tuple(some_line(chance, depth, hands, kinds, most) for each in range(chance.randint(0, most)))
+
+
+def some_whole_talk(chance):
+    return some_talk(chance, chance.choice((1, 2, 2, 3)), list(range(chance.choice((2, 3, 3, 4)))),
+                     chance.randint(1, 3), chance.randint(1, 3))

@@ -167,7 +167,7 @@ class Stretches(unittest.TestCase):
         for old, new, told in (((0, 0), (0, 0), (0, 0)), ((0, 3), (1, 2), (0, 3)), ((0, 3), (1, 4), (0, 10)),
                                ((0, 3), (-1, 3), (-5, 3)), ((0, 3), (-6, 11), (None, None)), ((0, 3), (-5, 10), (-5, 10)),
                                ((0, None), (5, None), (0, None)), ((0, 3), (None, 9), (None, 10)), ((3, 3), (0, 3), (0, 3)),
-                               ((3, 3), (1, None), (0, None))):
+                               ((3, 3), (1, None), (0, None)), ((2, 3), (2, 4), (2, 10)), ((2, 3), (1, 3), (0, 3))):
             self.assertEqual(stretched(old, new, [-5, 0, 10]), told)
         self.assertEqual(stretched((0, 0), (1, 1), []), (0, None))
 
